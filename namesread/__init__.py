@@ -1,0 +1,1 @@
+"""Scientific names as texts: agreed, folded and read."""
