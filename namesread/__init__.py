@@ -1,1 +1,1 @@
-"""Scientific names as texts: agreed, folded and read."""
+"""Scientific names as texts: agreed, folded, read, written, shortened in papers."""

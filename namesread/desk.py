@@ -1,15 +1,23 @@
 """The desk: a list of calls is answered, call by call, on one object that is new."""
 
+from namesread.citing import answer_cite
 from namesread.epithets import answer_alike, answer_classes, answer_epithet, answer_form
 from namesread.folding import answer_fold
 from namesread.genera import answer_families, answer_family, answer_genus, answer_turn
+from namesread.matching import answer_mend, answer_who
+from namesread.names import name_of
+from namesread.papers import Paper, answer_feed, answer_index, answer_last
 from namesread.reading import answer_read
+from namesread.telling import Draft, answer_tell
+from namesread.writing import answer_write
 
 
 class Desk:
     def __init__(self):
         self.genera = []
         self.epithets = []
+        self.paper = Paper()
+        self.draft = Draft()
 
 
 # Goes through the list that is handed in; what it gives out are copies.
@@ -78,6 +86,46 @@ def call_read(desk, numbers, texts):
     return answer_read(texts[0])
 
 
+def call_write(desk, numbers, texts):
+    return answer_write(name_of(numbers, texts))
+
+
+def call_cite(desk, numbers, texts):
+    return answer_cite(desk.genera, desk.epithets, numbers, texts)
+
+
+def call_who(desk, numbers, texts):
+    return answer_who(desk.genera, desk.epithets, texts[0])
+
+
+def call_mend(desk, numbers, texts):
+    return answer_mend(desk.genera, desk.epithets, texts[0])
+
+
+def call_feed(desk, numbers, texts):
+    return answer_feed(desk.paper, texts[0])
+
+
+def call_last(desk, numbers, texts):
+    answer = answer_last(desk.paper)
+    desk.paper = Paper()
+    return answer
+
+
+def call_index(desk, numbers, texts):
+    return answer_index(desk.paper)
+
+
+def call_tell(desk, numbers, texts):
+    return answer_tell(desk.draft, name_of(numbers, texts))
+
+
+def call_fresh(desk, numbers, texts):
+    told = desk.draft.told
+    desk.draft = Draft()
+    return [told]
+
+
 # Each stands at the place that is its number.
 CALLS = (
     call_genus,
@@ -90,6 +138,15 @@ CALLS = (
     call_families,
     call_turn,
     call_read,
+    call_write,
+    call_cite,
+    call_who,
+    call_mend,
+    call_feed,
+    call_last,
+    call_index,
+    call_tell,
+    call_fresh,
 )
 
 

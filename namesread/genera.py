@@ -20,8 +20,12 @@ def is_genus_number(genera, number):
     return 0 <= number < len(genera)
 
 
-def is_listed(genera, text):
-    return any([genus.text == text for genus in genera])
+# None where no genus has this text.
+def number_of_genus(genera, text):
+    for number, genus in enumerate(genera):
+        if genus.text == text:
+            return number
+    return None
 
 
 def answer_genus(genera, gender, stem, text):
@@ -31,7 +35,7 @@ def answer_genus(genera, gender, stem, text):
         return [-2]
     if stem < 1 or stem > min(LONGEST_STEM, len(text)):
         return [-3]
-    if is_listed(genera, text):
+    if number_of_genus(genera, text) is not None:
         return [-4]
     if len(genera) >= MOST_GENERA:
         return [-5]

@@ -1,17 +1,15 @@
 """Reading a text as the value that it is written from."""
 
+from namesread.authors import MOST_AUTHORS
+from namesread.marks import FIRST_MARKS, MARKS, SECOND_MARKS
 from namesread.names import Name, value_answer
 from namesread.scanner import NotRight, Scanner, pass_signs
 from namesread.scanwords import scan_author, scan_capital_word, scan_epithet, scan_genus_text, scan_number, scan_year
 from namesread.signs import BLANK, COMMA, DOT, OPENING, SMALL_E, is_capital, is_small
 from namesread.words import LONGEST_WORD, SHORTEST_WORD
 
-MOST_AUTHORS = 8
-MARKS = ("", "cf. ", "aff. ", "x ", "subsp. ", "var. ", "f. ")
 # As much of a mark as no epithet begins with: from there on it can only be the mark.
 TELLING_SIGNS = ("", "cf.", "aff.", "x ", "subsp.", "var.", "f.")
-FIRST_MARKS = (1, 2, 3)
-SECOND_MARKS = (1, 2, 4, 5, 6)
 
 
 def read_head(scanner, name):

@@ -1,7 +1,7 @@
 """Scanning the words and numbers of a name."""
 
 from namesread.scanner import NotRight
-from namesread.signs import APOSTROPHE, BLANK, HYPHEN, is_capital, is_digit, is_letter, is_small
+from namesread.signs import BLANK, HYPHEN, is_capital, is_digit, is_joint, is_letter, is_small
 from namesread.words import LONGEST_WORD, SHORTEST_WORD
 
 LONGEST_NUMBER = 4
@@ -58,7 +58,7 @@ def author_goes_on(scanner, start, is_last):
         return False
     if scanner.ahead() == BLANK and not is_last:
         return is_capital(scanner.further(1))
-    return scanner.ahead() in (BLANK, HYPHEN, APOSTROPHE)
+    return is_joint(scanner.ahead())
 
 
 def scan_author(scanner, is_last):

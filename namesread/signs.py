@@ -1,5 +1,6 @@
 """Bytes: the signs that texts are made of, as whole numbers."""
 
+LINE_END = 10
 BLANK = 32
 APOSTROPHE = 39
 OPENING = 40
@@ -23,6 +24,11 @@ def is_letter(byte):
 
 def is_digit(byte):
     return 48 <= byte <= 57
+
+
+# What stands between two parts of an author's name.
+def is_joint(byte):
+    return byte in (BLANK, HYPHEN, APOSTROPHE)
 
 
 def bytes_of(signs):

@@ -1,5 +1,6 @@
 """A slow, plain judge of right texts: what they are, what they are read as, and where others go wrong."""
 
+import bisect
 import re
 
 MARKS = ("", "cf. ", "aff. ", "x ", "subsp. ", "var. ", "f. ")
@@ -18,6 +19,15 @@ RIGHT = re.compile("|".join((
     rf"{ANY_HEAD} (?:cf\. |aff\. |x )?{EPITHET}(?: (?:cf\. |aff\. |subsp\. |var\. |f\. )?{EPITHET})?"
     rf"(?: {AUTHORS}| \({AUTHORS}\))?",
 )))
+
+# Takes right texts apart; on others it means nothing.
+PARTS = re.compile(
+    r"(?P<head>[A-Z][a-z]*)(?P<dot>\.?)(?: \((?P<sub>[A-Z][a-z]+)\))?"
+    r"(?P<unnamed> sp\.(?: (?P<num>[0-9]+))?)?"
+    r"(?: (?P<first>cf\. |aff\. |x |)(?P<e1>[a-z-]+)"
+    r"(?: (?P<second>cf\. |aff\. |subsp\. |var\. |f\. |)(?P<e2>[a-z-]+))?)?"
+    r"(?: (?P<bracket>\(?)(?P<authors>[A-Z][A-Za-z ,&'-]*?)(?P<etal> et al\.)?, (?P<year>[0-9]{4})\)?)?"
+)
 
 # Every beginning of a right text becomes right with one of the ends of these.
 WHOLE_TAILS = ("Aa aa", "Aa) aa", "1", "A & A, 1900", ", A & A, 1900", "A et al., 1900")
@@ -38,8 +48,11 @@ def is_beginning(signs):
 
 
 def place_of(signs):
-    """The length of the longest beginning of signs that is a beginning of a right text too."""
-    return max(length for length in range(len(signs) + 1) if is_beginning(signs[:length]))
+    """The length of the longest beginning of signs that is a beginning of a right text too.
+
+    A beginning of a beginning is one too, so the least length that is none can be searched by halves.
+    """
+    return bisect.bisect(range(len(signs) + 1), False, key=lambda length: not is_beginning(signs[:length])) - 1
 
 
 def value(head, **others):
@@ -51,6 +64,27 @@ def value(head, **others):
     return whole
 
 
+def value_read(signs):
+    """The value that a right text is read as."""
+    parts = PARTS.fullmatch(signs).groupdict("")
+    told = value(parts["head"], sub=parts["sub"], e1=parts["e1"], e2=parts["e2"])
+    told.update(abbr=len(parts["dot"]), q1=MARKS.index(parts["first"]), q2=MARKS.index(parts["second"]))
+    if parts["unnamed"]:
+        told["num"] = int(parts["num"] or "0")
+    if parts["authors"]:
+        told["authors"] = tuple(re.split(", | & ", parts["authors"]))
+        told.update(paren=len(parts["bracket"]), etal=int(parts["etal"] != ""), year=int(parts["year"]))
+    return told
+
+
+def is_sound(told):
+    """A value is sound if what is written of it is right and read as that very value."""
+    if told["q1"] not in range(7) or told["q2"] not in range(7):
+        return False
+    signs = written(told)
+    return is_right(signs) and value_read(signs) == told
+
+
 def authorship(told):
     authors = list(told["authors"])
     signs = ", ".join(authors[:-1]) + " & " + authors[-1] if len(authors) > 1 else authors[0]
@@ -58,7 +92,7 @@ def authorship(told):
 
 
 def written(told):
-    signs = told["head"] + "." * told["abbr"]
+    signs = told["head"] + ("." if told["abbr"] else "")
     if told["sub"]:
         signs += " (" + told["sub"] + ")"
     if told["num"] >= 0:
@@ -75,10 +109,10 @@ def value_answer(told):
     """A value as an answer."""
     numbers = [0] + [told[part] for part in ("abbr", "q1", "q2", "num", "paren", "etal", "year")]
     for signs in (told["head"], told["sub"], told["e1"], told["e2"]):
-        numbers += [len(signs), *signs.encode("ascii")]
+        numbers += [len(signs), *signs.encode("latin-1")]
     numbers.append(len(told["authors"]))
     for signs in told["authors"]:
-        numbers += [len(signs), *signs.encode("ascii")]
+        numbers += [len(signs), *signs.encode("latin-1")]
     return numbers
 
 
@@ -152,3 +186,17 @@ class Dice:
             signs[:place] + signs[place + 1:],
             signs + byte,
         ))
+
+    def spoilt_value(self, told):
+        """The value with one or two of its parts exchanged: perhaps it is sound all the same."""
+        told = dict(told)
+        for part in self.chance.sample(sorted(told), self.chance.choice((1, 1, 2))):
+            if part == "authors":
+                told[part] = self.chance.choice((
+                    (), told[part][:1], told[part] + ("A",), (self.spoilt("Ab-C"),), (self.author(), self.spoilt("A B")),
+                ))
+            elif isinstance(told[part], str):
+                told[part] = self.chance.choice(("", self.spoilt(told[part]), self.genus(), self.epithet(), "H", "ab"))
+            else:
+                told[part] = self.chance.choice((-1, 0, 0, 1, 1, 2, 3, 4, 6, 7, 999, 1000, 2999, 3000, 9999, 10000))
+        return told

@@ -2,7 +2,8 @@
 
 import unittest
 
-from calling import CallCase, alike, ask, classes, epithet, families, family, fold, form, genus, read, told, turn
+from calling import (CallCase, alike, ask, classes, epithet, families, family, fold, form, genus, joined, read, told,
+                     turn)
 
 from namesread.desk import answers
 
@@ -20,10 +21,6 @@ SEVERAL = [
     genus("homo"),
     read("Homo Alba"),
 ]
-
-
-def joined(rows):
-    return [number for row in rows for number in row]
 
 
 class DeskTest(CallCase):

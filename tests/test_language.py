@@ -156,6 +156,8 @@ class CodeTest(unittest.TestCase):
             self.assertEqual(node.decorator_list, [])
             arguments = node.args
             self.assertFalse(arguments.vararg or arguments.kwarg or arguments.kwonlyargs or arguments.posonlyargs)
+            self.assertIsNone(node.returns)
+            self.assertEqual([argument.arg for argument in arguments.args if argument.annotation], [])
         for name, node in nodes(ast.ClassDef):
             self.assertEqual((node.decorator_list, node.keywords), ([], []))
             self.assertLessEqual(len(node.bases), 1)
@@ -216,6 +218,23 @@ class CodeTest(unittest.TestCase):
             for node in ast.walk(tree):
                 if isinstance(node, ast.Call) and isinstance(node.func, ast.Name) and node.func.id in WALKED:
                     self.assertIn(id(node), walked, (path.name, node.lineno))
+
+    def test_what_a_loop_walks_is_not_changed(self):
+        for name, node in nodes(ast.For):
+            walked = {ast.dump(part) for part in ast.walk(node.iter) if isinstance(part, (ast.Name, ast.Attribute))}
+            for part in [part for statement in node.body for part in ast.walk(statement)]:
+                if isinstance(part, ast.Call) and isinstance(part.func, ast.Attribute) and part.func.attr in CHANGING:
+                    self.assertNotIn(ast.dump(part.func.value), walked, (name, part.lineno))
+                if isinstance(part, ast.Subscript) and isinstance(part.ctx, ast.Store):
+                    self.assertNotIn(ast.dump(part.value), walked, (name, part.lineno))
+
+    def test_keywords(self):
+        allowed = {"sorted": {"key", "reverse"}, "min": {"key", "default"}, "max": {"key", "default"}, "sum": {"start"},
+                   "enumerate": {"start"}, "zip": {"strict"}}
+        for name, node in nodes(ast.Call):
+            if isinstance(node.func, ast.Attribute) or node.func.id in OWN_NAMES:
+                called = node.func.attr if isinstance(node.func, ast.Attribute) else node.func.id
+                self.assertLessEqual({keyword.arg for keyword in node.keywords}, allowed.get(called, set()), name)
 
     def test_comparisons_and_errors(self):
         for name, node in nodes(ast.Compare):
